@@ -38,3 +38,51 @@ class Family:
         self.left = self.book.named(("version", (self.first,), self.tree, 1))
         self.right = self.book.named(("version", (self.first,), self.bare, 2))
         self.last = self.book.named(("version", (self.left, self.right), self.tree, 3))
+
+
+def grown(parents_of):
+    """A book with a tree, named 0, and versions from 1 on, one for each tuple of parents."""
+    book = Book()
+    book.named(("tree", ()))
+    for stamp, parents in enumerate(parents_of):
+        book.named(("version", parents, 0, stamp))
+    return book
+
+
+def shapes_of(many):
+    """Every shape of the versions from 0 to many - 1."""
+    pairs = [(upper, lower) for upper in range(many) for lower in range(upper)]
+    for chosen in range(2 ** len(pairs)):
+        yield (tuple(range(many)), tuple(pair for at, pair in enumerate(pairs) if chosen >> at & 1))
+
+
+def random_shape(dice, many, links, span):
+    """A shape of so many versions, with gaps between them, and about so many links over at most span versions."""
+    versions = sorted(dice.sample(range(3 * many), many))
+    pairs = set()
+    for _ in range(links if many > 1 else 0):
+        upper = dice.randrange(1, many)
+        lower = dice.randrange(max(0, upper - span), upper)
+        pairs.add((versions[upper], versions[lower]))
+    return (tuple(versions), tuple(sorted(pairs)))
+
+
+def ladder(many):
+    """Each version over the two ahead of it: the rows of links are far too many to be gone through."""
+    links = [(upper, lower) for upper in range(many) for lower in (upper - 2, upper - 1) if lower >= 0]
+    return (tuple(range(many)), tuple(links))
+
+
+def strands(many, width):
+    """So many versions in as many chains as width says, side by side."""
+    return (tuple(range(many)), tuple((upper, upper - width) for upper in range(width, many)))
+
+
+def naive_below(shape, version):
+    """All that are below a version, without itself, by going on until nothing new comes."""
+    found = set()
+    while True:
+        more = {lower for upper, lower in shape[1] if upper == version or upper in found}
+        if more <= found:
+            return found
+        found |= more
