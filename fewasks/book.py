@@ -50,6 +50,12 @@ class Book:
     def parents(self, version):
         return self.thing(version)[1]
 
+    def root(self, version):
+        return self.thing(version)[2]
+
+    def entries(self, tree):
+        return self.thing(tree)[1]
+
     def is_name(self, thing):
         """Whether it is a name that this book has given."""
         return is_int(thing) and 0 <= thing < len(self.contents)

@@ -28,6 +28,9 @@ class Holding:
     def holds(self, name):
         return is_int(name) and name in self.inside
 
+    def holds_version(self, thing):
+        return self.holds(thing) and self.book.kind(thing) == "version"
+
     def names(self):
         return list(self.ordered)
 
@@ -40,3 +43,6 @@ class Holding:
 
     def has_parents(self, version):
         return all([parent in self.inside for parent in self.book.parents(version)])
+
+    def held_parents(self, version):
+        return [parent for parent in self.book.parents(version) if parent in self.inside]

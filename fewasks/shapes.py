@@ -39,7 +39,7 @@ def shape(view, edges):
     links = [
         (version, parent)
         for version in versions if version not in told
-        for parent in view.book.parents(version) if view.holds(parent)
+        for parent in view.held_parents(version)
     ]
     return (tuple(versions), tuple(links))
 
@@ -69,3 +69,11 @@ def all_below(shape):
         under[upper][lower] = True
         under[upper].update(under[lower])
     return under
+
+
+def followed(steps, version):
+    """The version, the one to which its step leads, and so on, to one whose step is None."""
+    walk = [version]
+    while steps[walk[-1]] is not None:
+        walk.append(steps[walk[-1]])
+    return walk
