@@ -56,6 +56,9 @@ class Book:
     def entries(self, tree):
         return self.thing(tree)[1]
 
+    def leaf_rows(self, leaf):
+        return self.thing(leaf)[1]
+
     def is_name(self, thing):
         """Whether it is a name that this book has given."""
         return is_int(thing) and 0 <= thing < len(self.contents)

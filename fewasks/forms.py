@@ -37,9 +37,14 @@ def rises(things):
     return all([low < high for low, high in zip(things, things[1:])])
 
 
+def is_ints(thing):
+    """Whether it is a tuple of ints."""
+    return isinstance(thing, tuple) and all([is_int(part) for part in thing])
+
+
 def is_rising(thing):
     """Whether it is a rising tuple of ints."""
-    return isinstance(thing, tuple) and all([is_int(part) for part in thing]) and rises(thing)
+    return is_ints(thing) and rises(thing)
 
 
 def is_row(thing):

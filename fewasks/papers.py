@@ -2,7 +2,7 @@
 
 from fewasks.asks import settled
 from fewasks.errors import Contrary, Unsettled
-from fewasks.forms import is_int, is_pair
+from fewasks.forms import is_ints, is_pair
 from fewasks.shapes import followed, with_lower
 
 
@@ -42,7 +42,7 @@ def shows(thing, version, told, links):
 
 def is_walk_down(thing, links):
     """Whether it is a tuple of one or more ints, from each of which a link leads to the next."""
-    if not isinstance(thing, tuple) or len(thing) == 0 or not all([is_int(version) for version in thing]):
+    if not is_ints(thing) or len(thing) == 0:
         return False
     return all([(upper, lower) in links for upper, lower in zip(thing, thing[1:])])
 

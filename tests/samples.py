@@ -1,6 +1,12 @@
-"""What the tests share: odd things, and a small family of contents."""
+"""What the tests share: odd things, and small families of contents."""
+
+import unittest
 
 from fewasks.book import Book
+from fewasks.holding import Holding
+
+# 1 and 2 have no parents, 3 is over both, 4 over 2 alone, 5 over 3 and 4, 6 over 5, 7 over 1 and 6.
+PARENTS = [(), (), (1, 2), (2,), (3, 4), (5,), (1, 6)]
 
 
 def deep_tuple(depth):
@@ -46,6 +52,37 @@ def grown(parents_of):
     book.named(("tree", ()))
     for stamp, parents in enumerate(parents_of):
         book.named(("version", parents, 0, stamp))
+    return book
+
+
+class SevenVersions(unittest.TestCase):
+    """Tests over views of the versions of PARENTS."""
+
+    def setUp(self):
+        self.book = grown(PARENTS)
+
+    def view(self, *names):
+        return Holding(self.book, names)
+
+    def whole(self):
+        return self.view(*range(8))
+
+
+def rowed(many):
+    """A book of versions in one row."""
+    return grown([(k,) if k else () for k in range(many)])
+
+
+def laddered(many):
+    """A book of versions each over the two ahead of it."""
+    return grown([tuple(p for p in (k - 1, k) if p > 0) for k in range(many)])
+
+
+def leafed(*many_rows):
+    """A book of leaves, named from 0 on, one for each tuple of rows or text of rows of one sign."""
+    book = Book()
+    for rows in many_rows:
+        book.named(("leaf", tuple(rows)))
     return book
 
 

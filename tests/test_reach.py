@@ -4,25 +4,13 @@ import itertools
 import random
 import unittest
 
-from samples import Family, grown, odd_things
+from samples import Family, SevenVersions, grown, laddered, odd_things, rowed
 
 from fewasks.errors import NoName
 from fewasks.holding import Holding
 from fewasks.reach import ALL, missing, reached, right_ways, ways
 
-# 1 and 2 have no parents, 3 is over both, 4 over 2 alone, 5 over 3 and 4, 6 over 5, 7 over 1 and 6.
-PARENTS = [(), (), (1, 2), (2,), (3, 4), (5,), (1, 6)]
 DEEPS = (0, 1, 2, 3, ALL)
-
-
-def rowed(many):
-    """A book of versions in one row."""
-    return grown([(k,) if k else () for k in range(many)])
-
-
-def laddered(many):
-    """A book of versions each over the two ahead of it."""
-    return grown([tuple(p for p in (k - 1, k) if p > 0) for k in range(many)])
 
 
 def random_view(dice, many):
@@ -54,18 +42,7 @@ def are_ways(view, starts, deep, told):
             and not any(other[-1] == way[-1] and len(other) < len(way) for way in told for other in due))
 
 
-class Case(unittest.TestCase):
-    def setUp(self):
-        self.book = grown(PARENTS)
-
-    def view(self, *names):
-        return Holding(self.book, names)
-
-    def whole(self):
-        return self.view(*range(8))
-
-
-class Reached(Case):
+class Reached(SevenVersions):
     def test_all_is_400(self):
         self.assertEqual(ALL, 400)
 
@@ -160,7 +137,7 @@ class Reached(Case):
         self.assertIs(right_ways(view, (399,), told), True)
 
 
-class NoNames(Case):
+class NoNames(SevenVersions):
     def assert_refused(self, starts, name):
         view = self.view(1, 2, 3)
         asks = [lambda: reached(view, starts), lambda: missing(view, starts), lambda: ways(view, starts),
@@ -186,10 +163,11 @@ class NoNames(Case):
                 self.assertEqual(caught.exception.name, name)
 
 
-class Ways(Case):
+class Ways(SevenVersions):
     def assert_wrong(self, thing, view=None, starts=(7,), deep=ALL):
+        view = self.whole() if view is None else view
         with self.subTest(str(thing)[:60]):
-            self.assertIs(right_ways(view or self.whole(), starts, thing, deep=deep), False)
+            self.assertIs(right_ways(view, starts, thing, deep=deep), False)
 
     def right(self):
         return ((7, 1), (7, 6, 5, 3, 2), (7, 6, 5, 3), (7, 6, 5, 4), (7, 6, 5), (7, 6), (7,))

@@ -217,8 +217,10 @@ class Reasons(Case):
         return self.right()[:at] + (triple,) + self.right()[at + 1:]
 
     def assert_wrong(self, thing, view=None, versions=None, under=()):
+        view = self.view if view is None else view
+        versions = self.versions() if versions is None else versions
         with self.subTest(str(thing)[:60]):
-            self.assertIs(right_reasons(view or self.view, versions or self.versions(), thing, under=under), False)
+            self.assertIs(right_reasons(view, versions, thing, under=under), False)
 
     def test_right_ones(self):
         g = self.grove
