@@ -53,6 +53,9 @@ class Book:
     def root(self, version):
         return self.thing(version)[2]
 
+    def stamp(self, version):
+        return self.thing(version)[3]
+
     def entries(self, tree):
         return self.thing(tree)[1]
 
@@ -62,6 +65,9 @@ class Book:
     def is_name(self, thing):
         """Whether it is a name that this book has given."""
         return is_int(thing) and 0 <= thing < len(self.contents)
+
+    def is_version(self, thing):
+        return self.is_name(thing) and self.contents[thing][0] == "version"
 
     def is_content(self, thing):
         """Whether it is a content in this book, named or not."""

@@ -1,6 +1,6 @@
 """Reach: the versions to which ways lead from some starts by held parents, and those that lack there."""
 
-from fewasks.errors import NoName
+from fewasks.errors import Lack, NoName
 from fewasks.forms import rises
 from fewasks.shapes import followed
 
@@ -10,8 +10,15 @@ ALL = 400
 def check_versions(book, names):
     """Refuses the first of the names that is not the name of a version."""
     for name in names:
-        if not book.is_name(name) or book.kind(name) != "version":
+        if not book.is_version(name):
             raise NoName(name)
+
+
+def check_held_version(holder, name):
+    """Refuses what is not the name of a version, then one that the view or the store does not hold."""
+    check_versions(holder.book, (name,))
+    if not holder.holds(name):
+        raise Lack(name)
 
 
 def reached(view, starts, *, deep=ALL):

@@ -123,3 +123,36 @@ def naive_below(shape, version):
         if more <= found:
             return found
         found |= more
+
+
+def random_book(dice, leaves=4, trees=6, versions=6):
+    """A book of leaves, trees over them and versions over one another, many of them with the same parts."""
+    book = Book()
+    for k in range(leaves):
+        book.named(("leaf", tuple(dice.choice("abcd") for _ in range(dice.randrange(6))) + (str(k),)))
+    things = list(range(leaves))
+    for _ in range(trees):
+        labels = sorted(dice.sample("abcde", dice.randrange(5)))
+        shallow = [name for name in things if book.depth(book.thing(name)) < 8]
+        things.append(book.named(("tree", tuple((label, dice.choice(shallow)) for label in labels))))
+    roots = [name for name in set(things) if book.kind(name) == "tree"]
+    told = []
+    for stamp in range(versions):
+        parents = dice.sample(told, min(len(told), dice.choice([0, 1, 1, 1, 2, 3])))
+        told.append(book.named(("version", tuple(sorted(parents)), dice.choice(sorted(roots)), stamp)))
+    return book
+
+
+def versions_of(book):
+    return [name for name in range(len(book)) if book.kind(name) == "version"]
+
+
+def towered(width=20, height=8):
+    """A book with a leaf and trees, each of which has width entries to the one beneath, and a version of the top."""
+    book = Book()
+    below = book.named(("leaf", ("at the bottom",)))
+    labels = [chr(ord("a") + k) for k in range(width)]
+    for _ in range(height):
+        below = book.named(("tree", tuple((label, below) for label in labels)))
+    book.named(("version", (), below, 0))
+    return book
