@@ -14,6 +14,11 @@ def is_int(thing):
     return isinstance(thing, int) and not isinstance(thing, bool)
 
 
+def is_count(thing):
+    """Whether it is an int from 0 on."""
+    return is_int(thing) and thing >= 0
+
+
 def is_text(thing):
     return isinstance(thing, str) and all([is_sign(sign) for sign in thing])
 
@@ -28,8 +33,18 @@ def is_label(thing):
     return all(["a" <= sign <= "z" for sign in thing])
 
 
+def is_labels(thing, most):
+    """Whether it is a tuple of at most so many labels."""
+    return isinstance(thing, tuple) and len(thing) <= most and all([is_label(label) for label in thing])
+
+
 def is_pair(thing):
     return isinstance(thing, tuple) and len(thing) == 2
+
+
+def begins_with(thing, word, many):
+    """Whether it is a tuple of so many things, the first of them the word."""
+    return isinstance(thing, tuple) and len(thing) == many and thing[0] == word
 
 
 def rises(things):
@@ -45,6 +60,11 @@ def is_ints(thing):
 def is_rising(thing):
     """Whether it is a rising tuple of ints."""
     return is_ints(thing) and rises(thing)
+
+
+def is_truths(thing):
+    """Whether it is a tuple of truths."""
+    return isinstance(thing, tuple) and all([isinstance(part, bool) for part in thing])
 
 
 def is_row(thing):

@@ -4,6 +4,7 @@ import unittest
 
 from fewasks.book import Book
 from fewasks.holding import Holding
+from fewasks.house import House
 
 # 1 and 2 have no parents, 3 is over both, 4 over 2 alone, 5 over 3 and 4, 6 over 5, 7 over 1 and 6.
 PARENTS = [(), (), (1, 2), (2,), (3, 4), (5,), (1, 6)]
@@ -156,3 +157,55 @@ def towered(width=20, height=8):
         below = book.named(("tree", tuple((label, below) for label in labels)))
     book.named(("version", (), below, 0))
     return book
+
+
+class Hamlet:
+    """Two houses of one book, rows in whose talk can be told beforehand.
+
+    The leaf two is near to one. old has doc: one, src: low, new has doc: two, src: low, low has m: other.
+    first has the root old; second is over it, third over second, side over first; all these are there alone but first.
+    mine is over first and own over mine; these are here alone.
+    """
+
+    def __init__(self):
+        self.book = Book()
+        self.one = self.book.named(("leaf", tuple("abcdef")))
+        self.two = self.book.named(("leaf", tuple("abcdex")))
+        self.other = self.book.named(("leaf", ("z",)))
+        self.low = self.book.named(("tree", (("m", self.other),)))
+        self.old = self.book.named(("tree", (("doc", self.one), ("src", self.low))))
+        self.new = self.book.named(("tree", (("doc", self.two), ("src", self.low))))
+        self.bare = self.book.named(("tree", ()))
+        self.first = self.book.named(("version", (), self.old, 10))
+        self.second = self.book.named(("version", (self.first,), self.new, 11))
+        self.third = self.book.named(("version", (self.second,), self.bare, 12))
+        self.side = self.book.named(("version", (self.first,), self.new, 13))
+        self.mine = self.book.named(("version", (self.first,), self.old, 14))
+        self.own = self.book.named(("version", (self.mine,), self.bare, 15))
+        self.there = housed(self.book, range(11), main=self.third, side=self.side)
+        self.here = housed(self.book, (self.one, self.other, self.low, self.old, self.bare, self.first, self.mine,
+                                       self.own))
+
+
+def housed(book, names, **marks):
+    """A house that holds the names, with these marks."""
+    house = House(book)
+    for name in names:
+        house.put(name)
+    for mark, version in marks.items():
+        house.move(mark, old=None, new=version)
+    return house
+
+
+def house_state(house):
+    return (house.held(), len(house), house.changes(), house.marks(), house.trail(), house.far(), house.roots())
+
+
+def talked(asker, teller, most=1000):
+    """The rows and answers of a talk, at most so many."""
+    told = []
+    while not asker.over() and len(told) < most:
+        row = asker.say()
+        told.append((row, teller.answer(row)))
+        asker.hear(told[-1][1])
+    return told

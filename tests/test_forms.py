@@ -4,7 +4,8 @@ import unittest
 
 from samples import odd_things
 
-from fewasks.forms import is_content_form, is_int, is_label, is_rising, is_text, rises
+from fewasks.forms import (begins_with, is_content_form, is_count, is_int, is_label, is_labels, is_rising, is_text,
+                           is_truths, rises)
 
 
 class Forms(unittest.TestCase):
@@ -13,6 +14,24 @@ class Forms(unittest.TestCase):
             self.assertIs(is_int(thing), True)
         for thing in [True, False, None, "0", (0,), [0], {}]:
             self.assertIs(is_int(thing), False)
+
+    def test_counts(self):
+        for thing in [0, 1, 10 ** 60]:
+            self.assertIs(is_count(thing), True)
+        for thing in [-1, True, False, None, "0", (0,), [0], {}]:
+            self.assertIs(is_count(thing), False)
+
+    def test_truths(self):
+        for thing in [(), (True,), (False, True)]:
+            self.assertIs(is_truths(thing), True)
+        for thing in [[], [True], True, (1,), (0,), (None,), (True, "yes"), None, {}, ""]:
+            self.assertIs(is_truths(thing), False)
+
+    def test_words_at_the_beginning(self):
+        for thing, many in [(("row",), 1), (("row", 0), 2), (("row", None, []), 3)]:
+            self.assertIs(begins_with(thing, "row", many), True)
+        for thing in [*odd_things(), ("row",), ("row", 0, 0), ["row", 0], ("Row", 0), ("ro", "w"), {"row": 0}]:
+            self.assertIs(begins_with(thing, "row", 2), False)
 
     def test_texts(self):
         for thing in ["", " ", "~", "a b", "x" * 100]:
@@ -25,6 +44,12 @@ class Forms(unittest.TestCase):
             self.assertIs(is_label(thing), True)
         for thing in ["", "abcdefghi", "A", "a1", "a b", "`", "{", "\u00e9", None, 0, True, ("a",), ["a"]]:
             self.assertIs(is_label(thing), False)
+
+    def test_tuples_of_labels(self):
+        for thing in [(), ("a",), ("b", "a", "a")]:
+            self.assertIs(is_labels(thing, 3), True)
+        for thing in [("a",) * 4, ["a"], "a", ("A",), ("a", None), ("a", ""), None, {}]:
+            self.assertIs(is_labels(thing, 3), False)
 
     def test_rising(self):
         for things in [(), (1,), (1, 2), (-5, 0, 9), ("a", "aa", "b"), ((1, 9), (2, 0))]:

@@ -4,7 +4,7 @@ import itertools
 import random
 import unittest
 
-from samples import Family, grown, odd_things, random_book, rowed, versions_of
+from samples import Family, grown, house_state, odd_things, random_book, rowed, versions_of
 
 from fewasks.asks import most_asks, next_asks
 from fewasks.book import MOST, Book
@@ -27,10 +27,6 @@ def marks_and_trail(house):
     return (house.marks(), house.trail())
 
 
-def state(house):
-    return (house.held(), len(house), house.changes(), house.marks(), house.trail(), house.far(), house.roots())
-
-
 class Case(unittest.TestCase):
     """A house over the family; it does not hold right."""
 
@@ -48,7 +44,7 @@ class Case(unittest.TestCase):
 
     def assert_refused(self, error, fields, ask, *args, house=None, **more):
         house = house or self.house
-        before = state(house)
+        before = house_state(house)
         with self.assertRaises(error) as caught:
             ask(*args, **more)
         self.assertIs(type(caught.exception), error)
@@ -56,7 +52,7 @@ class Case(unittest.TestCase):
             told = getattr(caught.exception, field)
             self.assertEqual(told, value)
             self.assertIs(type(told), type(value))
-        self.assertEqual(state(house), before)
+        self.assertEqual(house_state(house), before)
 
 
 class Houses(Case):
@@ -64,7 +60,7 @@ class Houses(Case):
         house = House(self.book)
         self.assertIsInstance(house, Store)
         self.assertIs(house.book, self.book)
-        self.assertEqual(state(house), ([], 0, 0, [], [], [], []))
+        self.assertEqual(house_state(house), ([], 0, 0, [], [], [], []))
         self.assertEqual((house.kept(), house.sweep()), ([], []))
 
     def test_its_methods_stand_in_the_class_itself(self):
@@ -176,12 +172,12 @@ class Move(Case):
 
     def test_what_is_told_may_be_changed(self):
         self.house.move("main", old=None, new=self.family.first)
-        before = state(self.house)
+        before = house_state(self.house)
         for told in (self.house.marks(), self.house.trail(), self.house.far(), self.house.roots(), self.house.kept(),
                      self.house.held()):
             told.append(None)
             told[0] = None
-        self.assertEqual(state(self.house), before)
+        self.assertEqual(house_state(self.house), before)
 
     def test_lists_told_ahead_stay(self):
         self.house.move("main", old=None, new=self.family.first)
@@ -614,7 +610,7 @@ class Deeds(unittest.TestCase):
                 house, model = dice.choice(houses)
                 dice.choice(deeds)(dice, house, model)
                 for house, model in houses:
-                    self.assertEqual(state(house), model.state())
+                    self.assertEqual(house_state(house), model.state())
                     self.assertEqual([name for name in house.roots() if not house.holds(name)], [])
                     told.append((house.view(), house.held()))
             for view, held in told:

@@ -40,6 +40,11 @@ def bound_names(function):
                     if isinstance(node, ast.Name) and isinstance(node.ctx, (ast.Store, ast.Del))]
 
 
+def is_set(node):
+    called = isinstance(node, ast.Call) and isinstance(node.func, ast.Name) and node.func.id == "set"
+    return called or isinstance(node, (ast.Set, ast.SetComp))
+
+
 class Language(unittest.TestCase):
     @classmethod
     def setUpClass(cls):
@@ -189,6 +194,26 @@ class Language(unittest.TestCase):
             if isinstance(value, ast.Call):
                 word = value.func.id if isinstance(value.func, ast.Name) else getattr(value.func, "attr", "")
                 self.assertNotIn(word, {"zip", "enumerate", "reversed", "range", "items", "keys", "values"}, where)
+
+    def test_l3_tables_of_functions(self):
+        for where, node in self.nodes(ast.Call):
+            self.assertNotIsInstance(node.func, (ast.Subscript, ast.Call, ast.Constant), where)
+
+    def test_l24_stored_sets(self):
+        for where, function in self.nodes(ast.FunctionDef):
+            parents = {child: node for node in ast.walk(function) for child in ast.iter_child_nodes(node)}
+            stored = [node.targets[0].id for node in ast.walk(function) if isinstance(node, ast.Assign) and is_set(node.value)]
+            self.assertEqual(len(stored), len(set(stored)), where)
+            for node in ast.walk(function):
+                if isinstance(node, ast.Name) and node.id in stored and isinstance(node.ctx, ast.Load):
+                    around = parents[node]
+                    if isinstance(around, ast.Compare):
+                        self.assertIsInstance(around.ops[0], (ast.In, ast.NotIn), where)
+                    else:
+                        self.assertIn(around.func.id, {"sorted", "len"}, where)
+                if is_set(node) and not isinstance(parents[node], ast.Assign):
+                    around = parents[node]
+                    self.assertTrue(isinstance(around, ast.Compare) or around.func.id in {"sorted", "len"}, where)
 
     def test_l27_strings(self):
         for where, node in self.nodes(ast.Constant):
