@@ -59,7 +59,7 @@ class Town:
         return self.houses[label]
 
     def house(self, label):
-        if label not in self.houses:
+        if not isinstance(label, str) or label not in self.houses:
             raise NoHouse(label)
         return self.houses[label]
 

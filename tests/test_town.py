@@ -87,7 +87,7 @@ class Houses(Case):
         self.assertIs(self.town.house("north"), self.north)
 
     def test_no_house(self):
-        for label in ("nort", "northh", "a", "", "North"):
+        for label in ("nort", "northh", "", "North", *odd_things()):
             self.assert_refused(NoHouse, {"label": label}, self.town.house, label)
             self.assert_refused(NoHouse, {"label": label}, self.town.sweep, label)
 
